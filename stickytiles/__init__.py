@@ -1,0 +1,1 @@
+"""Stickytiles: tiles whose sides stick, and what grows whatever comes first."""
