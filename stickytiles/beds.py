@@ -60,12 +60,14 @@ def is_floor(thing):
     return is_tuple(thing, 2) and is_whole(thing[0], 1, 12) and is_whole(thing[1], 1, 12)
 
 
+def is_place(bed, thing):
+    floor = bed[1]
+    return is_tuple(thing, 2) and is_whole(thing[0], 0, floor[0] - 1) and is_whole(thing[1], 0, floor[1] - 1)
+
+
 def is_tile(bed, thing):
     kinds = bed[0][2]
-    floor = bed[1]
-    if not is_tuple(thing, 3) or not is_whole(thing[2], 0, len(kinds) - 1):
-        return False
-    return is_whole(thing[0], 0, floor[0] - 1) and is_whole(thing[1], 0, floor[1] - 1)
+    return is_tuple(thing, 3) and is_place(bed, thing[:2]) and is_whole(thing[2], 0, len(kinds) - 1)
 
 
 def is_standing(bed, thing):

@@ -1,5 +1,7 @@
 """By what a kind is held at a place, and what may grow (points 7 and 8)."""
 
+from stickytiles.beds import is_place
+
 
 def places_around(place):
     # In the order of the sides: north, east, south, west.
@@ -50,6 +52,14 @@ def sides_held(bed, standing, place, kind):
 def held(bed, standing, place, kind):
     names = names_facing(bed, kinds_by_place(standing), place)
     return strength_together(dict(bed[0][1]), sides_of(bed, kind), names)
+
+
+def is_growing(bed, strengths, standing_kinds, tile):
+    place = tile[:2]
+    if place in standing_kinds or not is_place(bed, place):
+        return False
+    names = names_facing(bed, standing_kinds, place)
+    return strength_together(strengths, sides_of(bed, tile[2]), names) >= bed[0][0]
 
 
 def growings_at(bed, strengths, names, place):

@@ -6,40 +6,10 @@ import unittest
 from stickytiles.holding import growings, held, sides_held
 from stickytiles.moves import (
     mirrored, mirrored_standing, renamed, reordered, reordered_standing, turned, turned_standing)
+from tests.reckoning import EAST, NORTH, SOUTH, WEST, places, plain_growings, plain_held, plain_sides_held
 from tests.samples import BED, HOUSE, KINDS, STICKS, great_bed, is_plain, names, some_beds
 
-NORTH, EAST, SOUTH, WEST = 0, 1, 2, 3
 RING = ((0, 1, 1), (1, 0, 1), (1, 2, 1), (2, 1, 1))
-
-
-def places(bed):
-    return [(x, y) for x in range(bed[1][0]) for y in range(bed[1][1])]
-
-
-def plain_sides_held(bed, standing, place, kind):
-    """The same by another way: tile by tile, by how it lies to the place."""
-    sides = {(0, 1): (NORTH, SOUTH), (1, 0): (EAST, WEST), (0, -1): (SOUTH, NORTH), (-1, 0): (WEST, EAST)}
-    found = set()
-    for x, y, other in standing:
-        way = (x - place[0], y - place[1])
-        if way in sides:
-            own, facing = sides[way]
-            name = bed[0][2][kind][1 + own]
-            if name and name == bed[0][2][other][1 + facing]:
-                found.add(own)
-    return tuple(sorted(found))
-
-
-def plain_held(bed, standing, place, kind):
-    strengths = dict(bed[0][1])
-    return sum(strengths[bed[0][2][kind][1 + side]] for side in plain_sides_held(bed, standing, place, kind))
-
-
-def plain_growings(bed, standing):
-    taken = {(x, y) for x, y, kind in standing}
-    return tuple(sorted(
-        (x, y, kind) for x, y in places(bed) for kind in range(len(bed[0][2]))
-        if (x, y) not in taken and plain_held(bed, standing, (x, y), kind) >= bed[0][0]))
 
 
 class HeldTest(unittest.TestCase):

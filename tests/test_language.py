@@ -45,6 +45,13 @@ NODES = tuple(getattr(ast, name) for name in """
     Eq NotEq Lt LtE Gt GtE Is IsNot In NotIn
 """.split())
 
+# L26: what Python's own values have, less what methods, or values, may be called all the same.
+PYTHON_NAMES = set().union(*[dir(kind) for kind in (str, int, list, tuple, dict, set, frozenset, bytes, bool)])
+VALUE_NAMES = set("count index title find get join lower upper split strip copy add".split())
+# L23.
+WALKED = ("zip", "enumerate", "reversed", "range", "items", "keys", "values")
+WALKERS = ("list", "tuple", "dict", "sorted", "sum", "any", "all", "enumerate", "zip", "min", "max")
+
 FILE_NAMES = set(dir(builtins)) | WORDS | {"test", "tests", "testing", "site", "conftest"}
 
 
@@ -64,6 +71,23 @@ def defined(tree):
         elif isinstance(node, ast.Assign):
             found += [target.id for target in node.targets]
     return found
+
+
+def called(node):
+    """The name, or the method, that a call calls."""
+    if not isinstance(node, ast.Call):
+        return None
+    return node.func.attr if isinstance(node.func, ast.Attribute) else getattr(node.func, "id", None)
+
+
+def own_methods():
+    return {part.name for tree in trees().values() for node in tree.body if isinstance(node, ast.ClassDef)
+            for part in node.body if isinstance(part, ast.FunctionDef)} - DOUBLE_METHODS
+
+
+def own_values():
+    return {node.attr for tree in trees().values() for node in ast.walk(tree)
+            if isinstance(node, ast.Attribute) and isinstance(node.ctx, ast.Store)}
 
 
 def bound_names(node):
@@ -152,13 +176,51 @@ class TreeTest(unittest.TestCase):
                 self.assertTrue(node.id in OWN_NAMES or not hasattr(builtins, node.id), where)
 
     def test_methods(self):
-        own = {part.name for where, node in self.each_node() if isinstance(node, ast.ClassDef) for part in node.body
-               if isinstance(part, ast.FunctionDef)}
+        own = own_methods() | DOUBLE_METHODS
         for where, node in self.each_node():
             if isinstance(node, ast.Call) and isinstance(node.func, ast.Attribute):
                 self.assertIn(node.func.attr, METHODS | own, where)
             if isinstance(node, ast.Attribute):
                 self.assertNotIn(node.attr, UNUSED_NAMES - {"id"}, where)
+
+    def test_methods_and_values_of_objects(self):
+        self.assertEqual(own_methods() & own_values(), set())
+        self.assertEqual(own_methods() & PYTHON_NAMES - METHODS - {"add", "discard"}, set())
+        self.assertEqual(own_values() & PYTHON_NAMES - VALUE_NAMES, set())
+        for name, tree in trees().items():
+            for node in tree.body:
+                if isinstance(node, ast.ClassDef):
+                    methods = [part.name for part in node.body if isinstance(part, ast.FunctionDef)]
+                    self.assertEqual(len(methods), len(set(methods)), name)
+
+    def test_locals_are_not_called_like_imports_or_classes(self):
+        for name, tree in trees().items():
+            above = {part.name for node in tree.body if isinstance(node, ast.ImportFrom) for part in node.names}
+            above |= {node.name for node in tree.body if isinstance(node, ast.ClassDef)}
+            for node in ast.walk(tree):
+                if isinstance(node, (ast.arg, ast.Name)):
+                    self.assertFalse(above & set(bound_names(node)), name)
+
+    def test_what_is_walked_on_the_spot(self):
+        for where, node in self.each_node():
+            for child in ast.iter_child_nodes(node):
+                if called(child) in WALKED:
+                    walked = isinstance(node, (ast.For, ast.comprehension)) and node.iter is child
+                    self.assertTrue(walked or called(node) in WALKERS, where)
+
+    def test_sets_are_not_kept(self):
+        for where, node in self.each_node():
+            for child in ast.iter_child_nodes(node):
+                if called(child) in ("set", "frozenset"):
+                    self.assertTrue(isinstance(node, (ast.Compare, ast.BinOp)) or called(node) in ("sorted", "len"), where)
+
+    def test_errors_taken(self):
+        for where, node in self.each_node():
+            if isinstance(node, ast.ExceptHandler):
+                self.assertIsInstance(node.type, ast.Name, where)
+                self.assertNotIn(node.type.id, ("Exception", "TypeError"), where)
+            if isinstance(node, ast.Raise):
+                self.assertIsInstance(node.exc, ast.Call, where)
 
     def test_top_of_each_file(self):
         for name, tree in trees().items():
