@@ -41,7 +41,11 @@ def sides_alike(sides, names):
 
 
 def strength_together(strengths, sides, names):
-    return sum([strengths[sides[side]] for side in sides_alike(sides, names)])
+    return sum([strengths[side] for side, name in zip(sides, names) if side == name and side != ""])
+
+
+def with_tile(standing, tile):
+    return tuple(sorted(standing + (tile,)))
 
 
 def sides_held(bed, standing, place, kind):
@@ -65,10 +69,18 @@ def is_growing(bed, strengths, standing_kinds, tile):
 def growings_at(bed, strengths, names, place):
     house = bed[0]
     found = []
+    # Most places of a wide floor lie beside nothing that sticks: there no kind need be asked.
+    if not any(names):
+        return found
     for number, kind in enumerate(house[2]):
         if strength_together(strengths, kind[1:], names) >= house[0]:
             found.append((place[0], place[1], number))
     return found
+
+
+def none_grows_but(bed, tile, rest):
+    names = names_facing(bed, rest, tile[:2])
+    return all([other == tile for other in growings_at(bed, dict(bed[0][1]), names, tile[:2])])
 
 
 def growings(bed, standing):

@@ -4,7 +4,7 @@ Each question looks at a thing's kind ahead of its worth: so nothing that is han
 """
 
 from stickytiles.beds import is_place, is_tile, is_tuple, rises
-from stickytiles.holding import growings, growings_at, is_growing, kinds_by_place, names_facing
+from stickytiles.holding import growings, is_growing, kinds_by_place, none_grows_but
 from stickytiles.rows import grown, is_row
 
 
@@ -23,11 +23,6 @@ def none_grows_at(bed, row_kinds, places, rest):
     strengths = dict(bed[0][1])
     tiles = [(x, y, row_kinds[(x, y)]) for x, y in places]
     return not any([is_growing(bed, strengths, rest, tile) for tile in tiles])
-
-
-def none_grows_but(bed, tile, rest):
-    names = names_facing(bed, rest, tile[:2])
-    return all([other == tile for other in growings_at(bed, dict(bed[0][1]), names, tile[:2])])
 
 
 def shows_waits(bed, row, end, tile, thing):

@@ -1,5 +1,6 @@
 """Whether all rows that end do so in one standing, with a paper for it (point 11)."""
 
+from stickytiles.errors import NotSure
 from stickytiles.holding import growings_at, kinds_by_place, names_facing
 from stickytiles.rows import first_end, row_among
 
@@ -27,3 +28,10 @@ def verdict(bed):
             return ("parts", without, choices[0], choices[1])
         waits.append(places_lacking(row, without))
     return ("sure", row, tuple(waits))
+
+
+def sure_verdict(bed):
+    told = verdict(bed)
+    if told[0] != "sure":
+        raise NotSure()
+    return told

@@ -4,6 +4,8 @@ import random
 
 from tests.samples import LETTERS, names
 
+GREAT = 10 ** 30
+
 # Two tiles beside the seed, by 2 each, and one that waits for both, by 1 and 1.
 SQUARE_KINDS = (
     ("s", "u", "r", "", ""),
@@ -57,17 +59,45 @@ def snake_places(wide, high):
     return found
 
 
-def snake(wide, high, floor, enough=4):
-    """Each place has a kind of its own and waits for all ahead of it."""
-    way = snake_places(wide, high)
+def chains(ways, floor, enough=4):
+    """Along each way each place has a kind of its own and waits for all ahead of it; the first ones are the seed."""
     called = names(240)
     sides = {(0, 1): 0, (1, 0): 1, (0, -1): 2, (-1, 0): 3}
-    kinds = [[LETTERS[k % 26], "", "", "", ""] for k in range(len(way))]
-    for k in range(len(way) - 1):
-        side = sides[(way[k + 1][0] - way[k][0], way[k + 1][1] - way[k][1])]
-        kinds[k][1 + side] = kinds[k + 1][1 + (side + 2) % 4] = called[k]
+    kinds = []
+    seed = []
+    for way in ways:
+        seed.append(way[0] + (len(kinds),))
+        for k, place in enumerate(way):
+            kinds.append([LETTERS[len(kinds) % 26], "", "", "", ""])
+            if k > 0:
+                side = sides[(place[0] - way[k - 1][0], place[1] - way[k - 1][1])]
+                kinds[-2][1 + side] = kinds[-1][1 + (side + 2) % 4] = called[len(kinds) - 2]
     house = (enough, tuple((name, enough) for name in called), tuple(tuple(kind) for kind in kinds))
-    return (house, floor, (way[0] + (0,),))
+    return (house, floor, tuple(sorted(seed)))
+
+
+def snake(wide, high, floor, enough=4):
+    return chains([snake_places(wide, high)], floor, enough)
+
+
+def chains_of(sizes, floor=(12, 12)):
+    """So many tiles each behind its seed, the ways cut out of one that winds over the floor."""
+    way = snake_places(*floor)
+    ways = []
+    for size in sizes:
+        ways.append(way[:size + 1])
+        way = way[size + 1:]
+    return chains(ways, floor, 1)
+
+
+def forks_of(sizes):
+    """Places of which each has so many kinds to choose from, and which have nothing to do with each other."""
+    called = names(len(sizes))
+    kinds = [("", "", name, "", "") for name in called]
+    for name, size in zip(called, sizes):
+        kinds += [("", "", "", "", name)] * size
+    seed = tuple((2 * (k % 6), k // 6, k) for k in range(len(sizes)))
+    return ((1, tuple((name, 1) for name in called), tuple(kinds)), (12, 1 + len(sizes) // 6), tuple(sorted(seed)))
 
 
 def with_kind_twice(bed, kind):
@@ -119,6 +149,28 @@ def drawn_picture(chance, floor):
     return ((drawn_enough(chance), sticks, tuple(kinds)), floor, drawn_seed(chance, spots, 2))
 
 
+def drawn_mosaic(chance, floor):
+    """Each place has a kind of its own, each two neighbours a stick of theirs, or none: so it is sure."""
+    wide, high = floor
+    called = names(240)
+    enough = chance.choice((1, 2, 2, 3))
+    kinds = {(x, y): ["", "", "", "", ""] for x in range(wide) for y in range(high)}
+    sticks = []
+    for x, y in list(kinds):
+        for side, near in ((0, (x, y + 1)), (1, (x + 1, y))):
+            if near in kinds and chance.randrange(6):
+                kinds[(x, y)][1 + side] = kinds[near][3 + side] = called[len(sticks)]
+                sticks.append((called[len(sticks)], chance.randint(max(1, enough - 1), enough)))
+    spots = [place + (number,) for number, place in enumerate(kinds)]
+    house = (enough, tuple(sticks), tuple(tuple(kind) for kind in kinds.values()))
+    return (house, floor, drawn_seed(chance, spots, 1 + wide * high // 4))
+
+
+def drawn_mosaics(count, floors, number=1):
+    chance = random.Random(number)
+    return [drawn_mosaic(chance, chance.choice(floors)) for step in range(count)]
+
+
 def drawn_beds(count, floors, number=1):
     chance = random.Random(number)
     found = []
@@ -152,4 +204,29 @@ def large_beds():
     found.append((snake(12, 3, (12, 3), 2), True))
     found.append((with_kind_twice(snake(7, 7, (7, 7), 3), 48), False))
     found.append((carpet(12, 12, 1, 120), False))
+    return found
+
+
+def spoilt_rows(chance, bed, row):
+    """The row with one thing done to it; it may be a row all the same."""
+    found = []
+    k = chance.randrange(len(row))
+    m = chance.randrange(len(row))
+    x, y, kind = row[k]
+    found.append(row[:k + 1] + row[k:])
+    found.append(row + row[k:k + 1])
+    found.append(row[:k] + row[k + 1:])
+    exchanged = list(row)
+    exchanged[k], exchanged[m] = row[m], row[k]
+    found.append(tuple(exchanged))
+    found.append(row[::-1])
+    for tile in (
+            (x, y, (kind + 1) % len(bed[0][2])), (x + 1, y, kind), (x, y + 1, kind), (x - 1, y, kind), (x, y - 1, kind),
+            (bed[1][0], y, kind), (x, bed[1][1], kind), (-1, y, kind), (x, -1, kind), (x, y, len(bed[0][2])),
+            (x, y, -1), (x, y, kind - len(bed[0][2])), (x - bed[1][0], y, kind), (x, y - bed[1][1], kind),
+            (GREAT, y, kind), (x, GREAT, kind), (x, y, GREAT), (-GREAT, y, kind), (x, -GREAT, kind), (x, y, -GREAT),
+            *bed[2]):
+        found.append(row[:k] + (tile,) + row[k + 1:])
+        found.append(row[:k] + (tile,) + row[k:])
+        found.append(row + (tile,))
     return found

@@ -1,5 +1,7 @@
 """A second way of reckoning, slow and plain, against which the program is held."""
 
+import itertools
+
 NORTH, EAST, SOUTH, WEST = 0, 1, 2, 3
 
 
@@ -92,6 +94,67 @@ def waiting_places(bed, place, standings):
     seeds = {tile[:2] for tile in bed[2]}
     ever = set().union(*spots) - seeds
     return tuple(sorted(q for q in ever if all(place in spot for spot in spots if q in spot)))
+
+
+def plain_waits(bed):
+    """Of a sure bed, by all standings gone through."""
+    standings = all_standings(bed)
+    end = max(standings, key=len)
+    return tuple((tile[:2], waiting_places(bed, tile[:2], standings)) for tile in end if tile not in bed[2])
+
+
+def plain_first_sides(bed, end, waiting):
+    """Point 14, the places that wait for each one being known."""
+    seeds = [tile[:2] for tile in bed[2]]
+    found = []
+    for x, y, kind in sorted(set(end) - set(bed[2])):
+        around = [(x, y + 1), (x + 1, y), (x, y - 1), (x - 1, y)]
+        ahead = [near for near in around if near in seeds or (near in waiting and (x, y) in waiting[near])]
+        behind = [near for near in around if near in waiting[(x, y)]]
+        strength = plain_held(bed, [tile for tile in end if tile[:2] in ahead], (x, y), kind)
+        sides = [tuple(sorted(around.index(near) for near in some)) for some in (ahead, behind)]
+        found.append((x, y, kind, *sides, strength))
+    return tuple(found)
+
+
+def some_turns(may):
+    """All turns of these growings, of which no two are at one place."""
+    return [turn for size in range(1, len(may) + 1) for turn in itertools.combinations(may, size)]
+
+
+def fewest_turns(bed):
+    """Of a sure bed: how few turns lead to the end, of whatever growings."""
+    level = {bed[2]}
+    count = 0
+    while all(plain_growings(bed, standing) for standing in level):
+        level = {
+            tuple(sorted(standing + turn))
+            for standing in level for turn in some_turns(plain_growings(bed, standing))}
+        count += 1
+    return count
+
+
+def plain_is_light(bed, row):
+    """Point 16, of a tuple of tuples of three whole numbers, by another hand."""
+    end = bed[2] + row
+    if plain_first_wrong(bed, row) is not None or plain_growings(bed, end):
+        return False
+    upon = set()
+    for number, (x, y, kind) in enumerate(row):
+        ahead = bed[2] + row[:number]
+        if plain_held(bed, ahead, (x, y), kind) > bed[0][0]:
+            return False
+        upon |= {(row[number], other) for other in ahead if plain_sides_held(bed, (other,), (x, y), kind)}
+    for tile in row:
+        rest = [other for other in end if (other, tile) not in upon]
+        rivals = set(range(len(bed[0][2]))) - {tile[2]}
+        if any(plain_held(bed, rest, tile[:2], kind) >= bed[0][0] for kind in rivals):
+            return False
+    return True
+
+
+def plain_book(bed):
+    return tuple(sorted(all_standings(bed), key=lambda standing: (len(standing), standing)))
 
 
 def is_number(thing):

@@ -10,13 +10,12 @@ from stickytiles.moves import (
     mirrored, mirrored_standing, renamed, reordered, reordered_standing, turned, turned_standing)
 from stickytiles.rows import first_end, grown, is_row
 from tests.growers import (
-    FORK, HAND_MADE, LINE, LINE_END, MIDDLE_FLOORS, SQUARE, SQUARE_END, carpet, drawn_beds, large_beds, small_beds,
-    snake, sum_bed, with_seed)
+    FORK, GREAT, HAND_MADE, LINE, LINE_END, MIDDLE_FLOORS, SQUARE, SQUARE_END, carpet, drawn_beds, large_beds,
+    small_beds, snake, spoilt_rows, sum_bed, with_seed)
 from tests.reckoning import all_rows, all_standings, drawn_row, places, plain_first_wrong, plain_growings
 from tests.samples import great_bed, is_plain, junk, names, nested, part_at, paths, replaced, some_beds
 
 SQUARE_ROW = ((0, 1, 2), (1, 0, 1), (1, 1, 3))
-GREAT = 10 ** 30
 
 
 def some_rows(count, number=2):
@@ -24,31 +23,6 @@ def some_rows(count, number=2):
     chance = random.Random(number)
     beds = small_beds(count) + drawn_beds(12, MIDDLE_FLOORS, number) + [sum_bed(4, 5), carpet(4, 3), snake(3, 3, (4, 4))]
     return [(bed, drawn_row(chance, bed)) for bed in beds]
-
-
-def spoilt_rows(chance, bed, row):
-    """The row with one thing done to it; it may be a row all the same."""
-    found = []
-    k = chance.randrange(len(row))
-    m = chance.randrange(len(row))
-    x, y, kind = row[k]
-    found.append(row[:k + 1] + row[k:])
-    found.append(row + row[k:k + 1])
-    found.append(row[:k] + row[k + 1:])
-    exchanged = list(row)
-    exchanged[k], exchanged[m] = row[m], row[k]
-    found.append(tuple(exchanged))
-    found.append(row[::-1])
-    for tile in (
-            (x, y, (kind + 1) % len(bed[0][2])), (x + 1, y, kind), (x, y + 1, kind), (x - 1, y, kind), (x, y - 1, kind),
-            (bed[1][0], y, kind), (x, bed[1][1], kind), (-1, y, kind), (x, -1, kind), (x, y, len(bed[0][2])),
-            (x, y, -1), (x, y, kind - len(bed[0][2])), (x - bed[1][0], y, kind), (x, y - bed[1][1], kind),
-            (GREAT, y, kind), (x, GREAT, kind), (x, y, GREAT), (-GREAT, y, kind), (x, -GREAT, kind), (x, y, -GREAT),
-            *bed[2]):
-        found.append(row[:k] + (tile,) + row[k + 1:])
-        found.append(row[:k] + (tile,) + row[k:])
-        found.append(row + (tile,))
-    return found
 
 
 class RowChecks(unittest.TestCase):
