@@ -157,6 +157,34 @@ def plain_book(bed):
     return tuple(sorted(all_standings(bed), key=lambda standing: (len(standing), standing)))
 
 
+def plain_sound(bed, standing):
+    part = list(bed[2])
+    more = standing
+    while more:
+        more = [tile for tile in standing if plain_grows(bed, part, tile)]
+        part += more[-1:]
+    return tuple(sorted(part))
+
+
+def plain_walked(walker, word):
+    letters, table = walker
+    numbers = [letters.index(letter) for letter in word]
+    state = 0
+    for k in range(len(numbers) - 1, -1, -1):
+        numbers[k], state = table[state][numbers[k]]
+    return "".join(letters[number] for number in numbers), state
+
+
+def are_one_piece(some):
+    """Whether each of these places is led to from each by neighbours."""
+    pieces = []
+    for x, y in some:
+        near = {(x, y), (x + 1, y), (x - 1, y), (x, y + 1), (x, y - 1)}
+        beside = [piece for piece in pieces if piece & near]
+        pieces = [piece for piece in pieces if not piece & near] + [set().union({(x, y)}, *beside)]
+    return len(pieces) == 1
+
+
 def is_number(thing):
     return type(thing) is int
 

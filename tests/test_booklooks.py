@@ -75,8 +75,9 @@ class ByHandTest(BookLooks):
                 self.assertIs(shows_book(other, book(bed)), other == bed)
 
     def test_standings_of_kinds_or_places_that_are_none(self):
-        wrongs = [((0, 0, 4),), ((2, 0, 0),), ((0, 2, 0),), ((-1, 0, 0),), ((0, 0, -1),), ((0, 0, GREAT),), ((GREAT, 0, 0),)]
-        wrongs += [((0, 0),), ((0, 0, 0, 0),), ((1, 0, 0), (0, 0, 0)), ((0, 0, 0), (0, 0, 0)), ((0, 0, 0), (0, 0, 1))]
+        wrongs = [((0, 0, 4),), ((2, 0, 0),), ((0, 2, 0),), ((-1, 0, 0),), ((0, 0, -1),), ((0, 0, GREAT),)]
+        wrongs += [((GREAT, 0, 0),), ((0, 0),)]
+        wrongs += [((0, 0, 0, 0),), ((1, 0, 0), (0, 0, 0)), ((0, 0, 0), (0, 0, 0)), ((0, 0, 0), (0, 0, 1))]
         for wrong in wrongs:
             self.no(SQUARE, book(SQUARE) + (wrong,), (wrong,) + book(SQUARE), (wrong,), (wrong,) + book(SQUARE)[1:])
 

@@ -11,13 +11,14 @@ from stickytiles.holding import growings
 from stickytiles.light import is_light
 from stickytiles.moves import mirrored, renamed, reordered, turned
 from stickytiles.rows import grown, is_row
+from stickytiles.spoilt import mended, sound, torn
 from stickytiles.verdicts import verdict
 from stickytiles.waiting import first_sides, turns, waits
 from tests.growers import (
     LARGE_FLOORS, MIDDLE_FLOORS, SMALL_FLOORS, carpet, chains_of, drawn_beds, drawn_mosaics, forks_of, small_beds,
     snake, sum_bed, with_kind_twice)
-from tests.reckoning import drawn_row
-from tests.samples import names
+from tests.reckoning import drawn_row, places
+from tests.samples import names, some_standing
 
 
 def same(thing):
@@ -117,6 +118,19 @@ class MovedTest(unittest.TestCase):
             self.assertIs(is_light(move.bed, move.row(row)), is_light(bed, row))
             seen[is_light(bed, row)] += len(row) > 0
         self.assertTrue(min(seen.values()) > 20, seen)
+
+    def test_spoilt_and_torn(self):
+        for chance, bed, move in self.each(118):
+            whole = dict((tile[:2], tile[2]) for tile in grown(bed, drawn_row(chance, bed, growings)))
+            whole.update((tile[:2], tile[2]) for tile in some_standing(chance, bed[0], bed[1])[::4])
+            standing = tuple(sorted(place + (kind,) for place, kind in whole.items()))
+            self.assertEqual(sound(move.bed, move.tiles(standing)), move.tiles(sound(bed, standing)))
+            self.assertEqual(mended(move.bed, move.tiles(standing))[0], move.tiles(mended(bed, standing)[0]))
+            if verdict(bed)[0] == "sure":
+                spots = places(bed)
+                some = tuple(sorted(chance.sample(spots, len(spots) // 2)))
+                new = torn(move.bed, move.places(some))
+                self.assertEqual(new, move.bed[:2] + (move.tiles(torn(bed, some)[2]),))
 
     def test_books(self):
         for chance, bed, move in self.each(117, 15):
