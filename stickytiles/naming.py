@@ -4,8 +4,8 @@ from stickytiles.beds import LETTERS
 
 
 def numbered(letter, number):
-    # Two letters for the number, since one tells no more than 26.
-    return letter + LETTERS[number // 26] + LETTERS[number % 26]
+    # Three letters for the number, since the blocks of 120 kinds have more names than two of them tell.
+    return letter + LETTERS[number // 676] + LETTERS[number // 26 % 26] + LETTERS[number % 26]
 
 
 def house_of(enough, strengths, kinds):

@@ -40,6 +40,10 @@ def makes(bed, shape):
     return told[0] == "sure" and tuple(sorted([tile[:2] for tile in bed[2] + told[1]])) == shape
 
 
+def shape_floor(shape):
+    return (max([place[0] for place in shape]) + 2, max([place[1] for place in shape]) + 2)
+
+
 def shape_bed(shape):
     # A kind for each place, and a name of its own for each step: so each kind can stand at its own place alone.
     sides = {}
@@ -52,8 +56,7 @@ def shape_bed(shape):
         sides[step[0]][step[1]] = name
         sides[step[2]][(step[1] + 2) % 4] = name
     kinds = [("",) + tuple(sides[place]) for place in shape]
-    floor = (max([place[0] for place in shape]) + 2, max([place[1] for place in shape]) + 2)
-    return (house_of(1, strengths, kinds), floor, (shape[0] + (0,),))
+    return (house_of(1, strengths, kinds), shape_floor(shape), (shape[0] + (0,),))
 
 
 def along_name(number):

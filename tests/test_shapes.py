@@ -2,7 +2,6 @@
 
 import copy
 import functools
-import itertools
 import random
 import unittest
 
@@ -13,35 +12,11 @@ from stickytiles.shapes import box_bed, is_shape, makes, shape_bed
 from stickytiles.verdictlooks import shows_verdict
 from stickytiles.verdicts import verdict
 from tests.growers import FORK, LINE, RACE, SQUARE, carpet, chains, large_beds, small_beds, with_kind_twice, with_seed
+from tests.outlines import GREAT_RING, RING, STAR, WINDING, box, drawn_shape, parts_of_a_square
 from tests.reckoning import all_ends, are_one_piece, drawn_row
 from tests.samples import is_plain, junk, nested, part_at, paths, replaced
 
 GREAT = 10 ** 30
-
-RING = ((1, 1), (1, 2), (1, 3), (2, 1), (2, 3), (3, 1), (3, 2), (3, 3))
-GREAT_RING = tuple(sorted([(x, y) for x in range(3, 7) for y in range(2, 6) if x in (3, 6) or y in (2, 5)]))
-STAR = ((2, 5), (3, 4), (3, 5), (3, 6), (4, 5))
-WINDING = ((1, 1), (1, 2), (1, 3), (2, 3), (3, 1), (3, 2), (3, 3), (4, 1), (5, 1), (5, 2), (5, 3), (6, 3))
-
-
-def box(wide, high):
-    return tuple((x, y) for x in range(1, wide + 1) for y in range(1, high + 1))
-
-
-def drawn_shape(chance, size):
-    """Grown place by place, at any of the neighbours."""
-    found = [(chance.randint(1, 6), chance.randint(1, 6))]
-    while len(found) < size:
-        x, y = chance.choice(found)
-        near = chance.choice(((x, y + 1), (x + 1, y), (x, y - 1), (x - 1, y)))
-        if near not in found and 1 <= near[0] <= 6 and 1 <= near[1] <= 6:
-            found.append(near)
-    return tuple(sorted(found))
-
-
-def parts_of_a_square(side, at=(1, 1)):
-    spots = [(at[0] + x, at[1] + y) for x in range(side) for y in range(side)]
-    return [some for size in range(1, len(spots) + 1) for some in itertools.combinations(spots, size)]
 
 
 @functools.lru_cache(None)
