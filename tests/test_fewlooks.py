@@ -180,6 +180,21 @@ class PapersTest(LookChecks):
                 seen[right] += 1
         self.assertTrue(min(seen.values()) > 20, seen)
 
+    def test_rows_that_fill_the_shape_and_end(self):
+        # Of a bed that parts some row may do so: that one shows nothing.
+        chance = random.Random(255)
+        seen = 0
+        for shape in (box(1, 4), box(4, 1)):
+            told = told_of(shape, 1)
+            for k, (way, row) in enumerate(told[2]):
+                bed = freest(shape, way, 1)
+                for step in range(20 if len(set(way[0])) == 3 else 0):
+                    other = drawn_row(chance, bed)
+                    if not plain_against(bed, shape, other):
+                        self.no(shape, 1, replaced(told, (2, k, 1), other))
+                        seen += 1
+        self.assertGreater(seen, 5)
+
     def test_papers_of_another_shape_or_of_the_other_enough(self):
         shapes = [shape for size in (2, 3) for shape in shapes_in_the_corner(size)] + [BENT, box(2, 2)]
         for one in shapes:
@@ -197,10 +212,20 @@ class PapersTest(LookChecks):
 
 class WayTest(LookChecks):
     def test_all_other_ways_told(self):
-        for shape, enough in SMALL:
+        for shape, enough in SMALL + ((box(3, 1), 1), (box(1, 3), 2)):
             word, way, papers = told_of(shape, enough)
             for other in plain_ways(shape, enough):
                 self.alike(shape, enough, (word, other, papers))
+
+    def test_ways_that_can_not_be(self):
+        seen = 0
+        for shape, enough in CASES:
+            word, way, papers = told_of(shape, enough)
+            others = [other for other in plain_ways(shape, enough) if not can_be(shape, other)]
+            for other in others[:20] + others[-20:]:
+                self.no(shape, enough, (word, other, papers), (word, other, ()))
+                seen += 1
+        self.assertGreater(seen, 100)
 
     def test_a_way_of_fewer_classes(self):
         for shape, enough in CASES:

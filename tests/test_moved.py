@@ -10,14 +10,18 @@ from stickytiles.errors import NotSure, TooMany
 from stickytiles.holding import growings
 from stickytiles.light import is_light
 from stickytiles.moves import mirrored, renamed, reordered, turned
+from stickytiles.prices import least_wrong
 from stickytiles.rows import grown, is_row
 from stickytiles.spoilt import mended, sound, torn
 from stickytiles.verdicts import verdict
+from stickytiles.texts import read_bed, show_bed
 from stickytiles.waiting import first_sides, turns, waits
+from stickytiles.wrongs import wrong_ones
 from tests.growers import (
     LARGE_FLOORS, MIDDLE_FLOORS, SMALL_FLOORS, carpet, chains_of, drawn_beds, drawn_mosaics, forks_of, small_beds,
     snake, sum_bed, with_kind_twice)
 from tests.reckoning import drawn_row, places
+from tests.roughs import drawn_base, drawn_goal
 from tests.samples import names, some_standing
 
 
@@ -131,6 +135,29 @@ class MovedTest(unittest.TestCase):
                 some = tuple(sorted(chance.sample(spots, len(spots) // 2)))
                 new = torn(move.bed, move.places(some))
                 self.assertEqual(new, move.bed[:2] + (move.tiles(torn(bed, some)[2]),))
+
+    def test_wrong_ones_and_prices(self):
+        words = []
+        for chance, bed, move in self.each(119, 30):
+            base = drawn_base(chance, bed)
+            goal = drawn_goal(chance, bed, base, chance.randint(0, 6))
+            told = least_wrong(bed, base, goal)
+            new = least_wrong(move.bed, move.tiles(base), move.tiles(goal))
+            words.append(told[0])
+            self.assertEqual(new[0], told[0])
+            if told[0] == "never":
+                self.assertEqual(new[1], move.tiles(told[1]))
+            else:
+                self.assertEqual(new[2][-1], told[2][-1])
+                # The parts are numbered otherwise, but have the prices they had.
+                self.assertEqual(sorted(new[2], key=repr), sorted(told[2], key=repr))
+                if base == bed[2]:
+                    self.assertEqual(wrong_ones(move.bed, move.row(told[1])), wrong_ones(bed, told[1]))
+        self.assertTrue(min(words.count(word) for word in ("least", "never")) > 40)
+
+    def test_texts(self):
+        for chance, bed, move in self.each(120):
+            self.assertEqual(read_bed(show_bed(move.bed)), move.bed)
 
     def test_books(self):
         for chance, bed, move in self.each(117, 15):
